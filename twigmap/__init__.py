@@ -1,0 +1,1 @@
+"""Twigmap: tables whose versions share their twigs."""
