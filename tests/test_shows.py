@@ -142,23 +142,20 @@ class ReadTest(ReadingTest):
                 self.assert_refused(read, text[:place] + "\x7f" + text[place + 1:], place)
 
     def test_each_beginning(self):
-        for text, wrong in all_beginnings(KEY, '019-"\\() a\n', 5):
-            if KEY.fullmatch(text):
+        self.assert_reads_as(KEY, '019-"\\() a\n', 5)
+
+    def test_each_beginning_of_tuples(self):
+        self.assert_reads_as(KEY, "1( )", 9)
+
+    def assert_reads_as(self, pattern, signs, longest):
+        for text, wrong in all_beginnings(pattern, signs, longest):
+            if pattern.fullmatch(text):
                 self.assertEqual(show(read(text)), text)
             else:
                 self.assert_refused(read, text, len(text))
             for sign in wrong:
                 self.assert_refused(read, text + sign, len(text))
                 self.assert_refused(read, text + sign + ')"1', len(text))
-
-    def test_each_beginning_of_tuples(self):
-        for text, wrong in all_beginnings(KEY, "1( )", 9):
-            if KEY.fullmatch(text):
-                self.assertEqual(show(read(text)), text)
-            else:
-                self.assert_refused(read, text, len(text))
-            for sign in wrong:
-                self.assert_refused(read, text + sign, len(text))
 
     def test_the_bounds_at_each_depth(self):
         for opened in ("", "(", "((", "(((", "(1 ", "(((1 2 3 "):
