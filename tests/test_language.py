@@ -25,6 +25,9 @@ OWN_METHODS = """
     join keys ljust lower lstrip partition pop remove replace reverse rfind rjust rpartition rsplit rstrip setdefault split
     splitlines startswith strip update upper values zfill bit_length
 """.split()
+PYTHONS_OWN = [name for kind in (str, int, list, tuple, dict, set, bytes) for name in dir(kind)] + ["args"]
+FREE_VALUES = "count index title find get join lower upper split strip copy add".split()
+FREE_METHODS = OWN_METHODS + ["add", "discard"]
 DUNDERS = ["__init__", "__eq__", "__repr__", "__str__", "__len__"]
 BANNED_NAMES = """
     register mro elements open input version_info with_traceback add_note attrgetter breakpoint builtins compile copyright
@@ -89,9 +92,16 @@ def value_faults(node):
         yield "L19 a handler"
 
 
+def methods_in(tree):
+    return [part for node in ast.walk(tree) if isinstance(node, ast.ClassDef)
+            for part in node.body if isinstance(part, ast.FunctionDef)]
+
+
+# A method's name is bound within its class alone, so a local of that name is a name of its own.
 def bound_names(tree):
+    methods = methods_in(tree)
     for node in ast.walk(tree):
-        if isinstance(node, (ast.FunctionDef, ast.ClassDef)):
+        if isinstance(node, (ast.FunctionDef, ast.ClassDef)) and node not in methods:
             yield node.name
         if isinstance(node, ast.arg):
             yield node.arg
@@ -104,9 +114,7 @@ def bound_names(tree):
 
 
 def name_faults(tree, methods):
-    in_classes = [part.name for node in ast.walk(tree) if isinstance(node, ast.ClassDef)
-                  for part in node.body if isinstance(part, ast.FunctionDef)]
-    bound = [name for name in bound_names(tree) if name not in in_classes]
+    bound = list(bound_names(tree))
     for name in bound:
         if name.startswith("_") or name in BANNED_NAMES or hasattr(builtins, name):
             yield "L8, L12, L15, L17 the name " + name
@@ -160,6 +168,33 @@ def drawn_from(path):
             for node in ast.parse(path.read_text()).body if isinstance(node, ast.ImportFrom)}
 
 
+# What an object keeps: all that is given through a dot.
+def values_in(tree):
+    return {node.attr for node in ast.walk(tree) if isinstance(node, ast.Attribute) and isinstance(node.ctx, ast.Store)}
+
+
+def member_faults(trees):
+    methods = {method.name for tree in trees for method in methods_in(tree)} - set(DUNDERS)
+    values = {name for tree in trees for name in values_in(tree)}
+    yield from ["L18 a method and a value " + name for name in sorted(methods & values)]
+    yield from ["L26 the method " + name for name in sorted(methods & set(PYTHONS_OWN) - set(FREE_METHODS))]
+    yield from ["L26 the value " + name for name in sorted(values & set(PYTHONS_OWN) - set(FREE_VALUES))]
+    for tree in trees:
+        for node in tree.body:
+            if isinstance(node, ast.ClassDef):
+                names = [method.name for method in methods_in(node)]
+                yield from ["L18 twice " + name for name in sorted(set(names)) if names.count(name) > 1]
+
+
+# Parameters and locals that are called like a class or an import of their file.
+def hidden_names(tree):
+    outer = {node.name for node in tree.body if isinstance(node, ast.ClassDef)}
+    outer |= {alias.name for node in tree.body if isinstance(node, ast.ImportFrom) for alias in node.names}
+    inner = {node.arg for node in ast.walk(tree) if isinstance(node, ast.arg)}
+    inner |= {node.id for node in ast.walk(tree) if isinstance(node, ast.Name) and isinstance(node.ctx, ast.Store)}
+    return sorted(outer & inner)
+
+
 class LanguageTest(unittest.TestCase):
     def test_files(self):
         self.assertTrue((PACKAGE / "__init__.py").is_file())
@@ -169,8 +204,7 @@ class LanguageTest(unittest.TestCase):
             self.assertFalse(path.stem.isalpha() and hasattr(builtins, path.stem), path.stem)
 
     def test_every_file_keeps_to_the_rules(self):
-        methods = [part.name for path in package_files() for node in ast.parse(path.read_text()).body
-                   if isinstance(node, ast.ClassDef) for part in node.body if isinstance(part, ast.FunctionDef)]
+        methods = [method.name for path in package_files() for method in methods_in(ast.parse(path.read_text()))]
         for path in package_files():
             with self.subTest(file=path.name):
                 self.assertEqual(faults(path.read_text(), methods), [])
@@ -181,6 +215,23 @@ class LanguageTest(unittest.TestCase):
             self.assertEqual(len(names), len(set(names)), path.name)
             for other, names in drawn_from(path).items():
                 self.assertLessEqual(set(names), set(defined_in(PACKAGE / (other + ".py"))))
+
+    def test_names_of_methods_values_and_locals(self):
+        trees = [ast.parse(path.read_text()) for path in package_files()]
+        self.assertEqual(list(member_faults(trees)), [])
+        for tree in trees:
+            self.assertEqual(hidden_names(tree), [])
+
+    def test_breaches_of_names_are_seen(self):
+        for source in [
+            "class A:\n    def b(self):\n        self.b = 1\n", "class A:\n    def sort(self):\n        pass\n",
+            "class A:\n    def b(self):\n        self.items = 1\n",
+            "class A:\n    def b(self):\n        self.real = 1\n",
+            "class A:\n    def b(self):\n        pass\n    def b(self):\n        pass\n",
+        ]:
+            self.assertNotEqual(list(member_faults([ast.parse(source)])), [], source)
+        for source in ["from twigmap.a import b\ndef f(b):\n    pass\n", "class A:\n    pass\ndef f():\n    A = 1\n"]:
+            self.assertNotEqual(hidden_names(ast.parse(source)), [], source)
 
     def test_no_two_files_draw_from_one_another(self):
         left = {path.stem: set(drawn_from(path)) for path in package_files()}
