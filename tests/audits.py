@@ -3,9 +3,13 @@
 import collections
 import itertools
 
-from trees import PLACES, TwigCase
+from trees import PLACES, RISING, TwigCase
 from twigmap.puts import put_in
+from twigmap.tables import Table
 from twigmap.takes import taken_from
+
+# As many keys as a table may have rows, of all kinds.
+MANY = [RISING[at * len(RISING) // 400] for at in range(400)]
 
 # All stems of two to four stems of two to four leaves of one row: from each a leaf may go with all that follows.
 TWO_HIGH = [[[1] * many for many in parts] for wide in (2, 3, 4) for parts in itertools.product((2, 3, 4), repeat=wide)]
@@ -20,6 +24,13 @@ UNEVEN = [
 def slender(height):
     """As high as so few rows may be."""
     return [slender(height - 1)] * 2 if height else 1
+
+
+def grown(shelf, keys):
+    table = Table(shelf)
+    for key in keys:
+        table.put(key, ("of", key))
+    return table
 
 
 def some(things, many):
@@ -51,9 +62,11 @@ class Picture:
             return []
         return [root] + [number for branch in self.branches(root) for number in self.reach(branch)]
 
+    def leaves(self, root):
+        return [number for number in self.reach(root) if not self.branches(number)]
+
     def rows(self, root):
-        leaves = [number for number in self.reach(root) if not self.branches(number)]
-        return [row for leaf in leaves for row in self.found[leaf][1]]
+        return [row for leaf in self.leaves(root) for row in self.found[leaf][1]]
 
     def height(self, number):
         branches = self.branches(number)

@@ -141,6 +141,16 @@ class PutInTest(AuditCase):
         self.assert_nothing_changed(shelf, NotHeld(unheld), put_in, shelf, unheld, key, value)
         self.assert_refused(NoTwig(0), put_in, Shelf(), 0, 1, 1)
 
+    def test_refusals_on_shared_and_on_full_twigs(self):
+        """Nothing is copied or split ahead of a refusal."""
+        for plan in (4, [4, 4], [[4] * 4] * 4):
+            shelf, tree = planted(plan)
+            for _ in range(2):
+                for key in some(asked_keys(tree), 9):
+                    for wrong in NO_KEYS:
+                        self.assert_nothing_changed(shelf, NoKey(), put_in, shelf, tree.number, key, wrong)
+                shelf.hold(tree.number)
+
 
 if __name__ == "__main__":
     unittest.main()

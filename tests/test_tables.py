@@ -3,13 +3,12 @@
 import random
 import unittest
 
-from audits import AuditCase, Picture
+from audits import MANY, AuditCase, Picture, grown
 from trees import MISSING, NO_KEYS, PLACES, RISING, planted, put, rows_for, shown
 from twigmap.errors import NoKey, NoTwig, NotHeld
 from twigmap.shelf import Shelf
 from twigmap.tables import Table
 
-MANY = [RISING[at * len(RISING) // 400] for at in range(400)]
 KINDS = [-5, 0, 7, "", "a000", "a001", "~", (), (1,), (50, 2), ("c", ()), ((), 3)]
 
 
@@ -27,13 +26,6 @@ class NotingShelf(Shelf):
     def put_stem(self, numbers):
         self.puts.append(numbers)
         return Shelf.put_stem(self, numbers)
-
-
-def grown(shelf, keys):
-    table = Table(shelf)
-    for key in keys:
-        table.put(key, ("of", key))
-    return table
 
 
 class MakingTest(AuditCase):

@@ -1,4 +1,4 @@
-"""Making twigs a root's own: where somebody else holds one, a copy is put in its stead."""
+"""Holds of roots, and making twigs a root's own: where somebody else holds one, a copy is put in its stead."""
 
 from twigmap.ways import is_leaf
 
@@ -7,6 +7,18 @@ from twigmap.ways import is_leaf
 def check_root(shelf, root):
     if root is not None:
         shelf.check_held([root])
+
+
+# Told is the root again, now with one hold more, the asker's.
+def held(shelf, root):
+    if root is not None:
+        shelf.hold(root)
+    return root
+
+
+def release(shelf, root):
+    if root is not None:
+        shelf.let_go(root)
 
 
 # The numbers that now stand on the way, from the root down. The copies are put from above on, as a

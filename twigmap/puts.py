@@ -20,20 +20,16 @@ def put_in(shelf, root, key, value):
         return root
     owned = own_way(shelf, steps)
     added = give_rows(shelf, owned[-1], rows_with(rows, row, steps[-1][1]))
-    place = len(owned) - 1
-    while added is not None and place > 0:
-        place -= 1
-        added = add_branch(shelf, owned[place], steps[place][1] + 1, added)
-    if added is None:
-        return owned[0]
-    return shelf.put_stem([owned[0], added])
+    places = [step[1] + 1 for step in steps[:-1]]
+    return root_with(shelf, owned[0], add_up(shelf, owned[:-1], places, added))
 
 
 def rows_with(rows, row, at):
     return rows[:at] + [row] + [other for other in rows[at:] if other[0] != row[0]]
 
 
-# This and add_branch tell the number of the new twig that stands right behind, None where there is none.
+# Told here, by add_branch and by add_up is the number of the new twig that stands right behind, None where
+# there is none.
 def give_rows(shelf, leaf, rows):
     if len(rows) <= MOST_ROWS:
         shelf.change_leaf(leaf, rows)
@@ -50,3 +46,20 @@ def add_branch(shelf, stem, at, number):
         return None
     shelf.change_stem(stem, branches[:KEPT])
     return shelf.put_stem(branches[KEPT:])
+
+
+# The stems stand one below the other. The added twig (None is none) goes into the lowest one at its place,
+# what a stem can't have any more into the one above it.
+def add_up(shelf, stems, places, added):
+    over = added
+    for at in range(len(stems) - 1, -1, -1):
+        if over is None:
+            return None
+        over = add_branch(shelf, stems[at], places[at], over)
+    return over
+
+
+def root_with(shelf, root, added):
+    if added is None:
+        return root
+    return shelf.put_stem([root, added])

@@ -1,7 +1,7 @@
 """Tables: rows on a shelf, changed in place where nobody else holds them."""
 
 from twigmap.keys import checked
-from twigmap.owns import check_root
+from twigmap.owns import check_root, held, release
 from twigmap.places import rows_under
 from twigmap.puts import put_in
 from twigmap.takes import taken_from
@@ -37,11 +37,8 @@ class Table:
         return twigs_of(self.shelf, self.root)
 
     def fork(self):
-        if self.root is not None:
-            self.shelf.hold(self.root)
-        return Table(self.shelf, self.root)
+        return Table(self.shelf, held(self.shelf, self.root))
 
     def clear(self):
-        if self.root is not None:
-            self.shelf.let_go(self.root)
+        release(self.shelf, self.root)
         self.root = None

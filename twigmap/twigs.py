@@ -27,10 +27,14 @@ class Twig:
 
 # All keys and values are checked ahead of all else, those of rows too many among them.
 def checked_rows(rows):
-    own = [(checked(row[0]), checked(row[1])) for row in rows]
+    own = own_rows(rows)
     if not 1 <= len(own) <= MOST_ROWS or not rise([row[0] for row in own]):
         raise NoLeaf()
     return own
+
+
+def own_rows(rows):
+    return [(checked(row[0]), checked(row[1])) for row in rows]
 
 
 def rise(keys):

@@ -1,0 +1,184 @@
+"""What the long runs share: deeds at several tables of one shelf, held against plain dicts."""
+
+import collections
+import random
+
+from audits import AuditCase, Picture
+from trees import NO_KEYS, PLACES, RISING
+from twigmap.errors import NoKey
+from twigmap.shelf import Shelf
+from twigmap.tables import Table
+
+
+class Scene:
+    """Tables on a shelf, for each the dict of its rows, and the numbers that the asker holds."""
+
+    def __init__(self, seed, keys, most):
+        self.chance = random.Random(seed)
+        self.keys = [RISING[at * len(RISING) // keys] for at in range(keys)]
+        self.most = most
+        self.shelf = Shelf()
+        self.tables = [Table(self.shelf)]
+        self.dicts = [{key: 0 for key in self.chance.sample(self.keys, keys // 2)}]
+        for key in self.dicts[0]:
+            self.tables[0].put(key, 0)
+        self.held = []
+
+    def pick(self):
+        return self.chance.randrange(len(self.tables))
+
+    def smallest(self):
+        """What is to be cleared, so that the great ones live long."""
+        return min(range(len(self.tables)), key=lambda at: len(self.dicts[at]))
+
+    def key(self, rows, there):
+        """A key that has a row, or one that has none; None where there is no such one."""
+        fitting = [key for key in self.keys if (key in rows) == there]
+        return self.chance.choice(fitting) if fitting else None
+
+    def deed(self, weights, growing):
+        weights = dict(weights)
+        weights["put" if growing else "take"] *= 3
+        return self.chance.choices(list(weights), list(weights.values()))[0]
+
+    def add_table(self, table, rows):
+        if len(self.tables) < self.most:
+            self.tables.append(table)
+            self.dicts.append(rows)
+            return
+        at = self.smallest()
+        self.tables[at].clear()
+        self.tables[at] = table
+        self.dicts[at] = rows
+
+
+class SceneCase(AuditCase):
+    def do(self, scene, name):
+        """Does one deed, and tells whether it could be done."""
+        return getattr(self, "do_" + name.replace(" ", "_"))(scene, scene.pick())
+
+    def do_put(self, scene, at):
+        key = scene.chance.choice(scene.keys)
+        value = scene.chance.choice(RISING)
+        wanted = scene.dicts[at].get(key) != value
+        self.assertIs(self.put_audited(scene.tables[at], key, value), wanted)
+        scene.dicts[at][key] = value
+        return True
+
+    def do_put_again(self, scene, at):
+        key = scene.key(scene.dicts[at], True)
+        return key is not None and not self.put_audited(scene.tables[at], key, scene.dicts[at][key])
+
+    def do_take(self, scene, at):
+        key = scene.key(scene.dicts[at], True)
+        if key is None:
+            return False
+        scene.dicts[at].pop(key)
+        return self.take_audited(scene.tables[at], key)
+
+    def do_take_nothing(self, scene, at):
+        key = scene.key(scene.dicts[at], False)
+        return key is not None and not self.take_audited(scene.tables[at], key)
+
+    def do_fork(self, scene, at):
+        fork = scene.tables[at].fork()
+        scene.add_table(fork, dict(scene.dicts[at]))
+        return True
+
+    def do_clear(self, scene, at):
+        scene.tables[scene.smallest()].clear()
+        scene.dicts[scene.smallest()] = {}
+        return True
+
+    def do_no_key(self, scene, at):
+        table = scene.tables[at]
+        wrong = scene.chance.choice(NO_KEYS)
+        for deed, things in [(table.put, (wrong, 1)), (table.put, (1, wrong)), (table.take, (wrong,))]:
+            self.assert_nothing_changed(scene.shelf, NoKey(), deed, *things)
+        return True
+
+    def do_hold(self, scene, at):
+        twigs = scene.tables[at].twigs()
+        if twigs:
+            scene.held.append(scene.chance.choice(twigs))
+            scene.shelf.hold(scene.held[-1])
+        return twigs != []
+
+    def do_let_go(self, scene, at):
+        if scene.held:
+            scene.chance.shuffle(scene.held)
+            scene.shelf.let_go(scene.held.pop())
+            return True
+        return False
+
+    def do_hold_as_table(self, scene, at):
+        """Another table of a twig that the asker holds, wherever it lies."""
+        if not scene.held:
+            return False
+        number = scene.held.pop()
+        scene.add_table(Table(scene.shelf, number), dict(Picture(scene.shelf).rows(number)))
+        return True
+
+    def do_put_stem(self, scene, at):
+        """A stem of the asker's own over twigs of one or two tables."""
+        picture = Picture(scene.shelf)
+        pairs = [(one, other) for one in scene.tables[at].twigs() for other in scene.tables[scene.pick()].twigs()
+                 if picture.height(one) == picture.height(other)
+                 and PLACES[picture.labels[one][2]] < PLACES[picture.labels[other][1]]]
+        if not pairs:
+            return False
+        pair = scene.chance.choice(pairs)
+        for number in pair:
+            scene.shelf.hold(number)
+        scene.held.append(scene.shelf.put_stem(list(pair)))
+        return True
+
+    def do_put_leaf(self, scene, at):
+        scene.held.append(scene.shelf.put_leaf([(scene.chance.choice(scene.keys), 1)]))
+        return True
+
+    def assert_scene(self, scene):
+        picture = Picture(scene.shelf)
+        self.assert_even(picture)
+        roots = [table.root for table in scene.tables]
+        self.assertEqual([root is None for root in roots], [rows == {} for rows in scene.dicts])
+        holds = sorted(scene.held + [root for root in roots if root is not None])
+        self.assertEqual(picture.holds(), holds)
+        self.assertEqual(set(picture.found), picture.reached_by(holds))
+        for table, rows in zip(scene.tables, scene.dicts):
+            self.assertEqual(table.rows(), sorted(rows.items(), key=lambda row: PLACES[row[0]]))
+            self.assertEqual(table.count(), len(rows))
+            self.assertEqual(table.twigs(), sorted(picture.reach(table.root)))
+            for key in scene.chance.sample(scene.keys, 5):
+                self.assertEqual(table.side(key), [rows[key]] if key in rows else [])
+
+    def run_all(self, seeds, runs, weights):
+        """Runs of deeds drawn by weights; each run tells how many keys, tables and deeds there are."""
+        seen = collections.Counter()
+        for seed in seeds:
+            for run in runs:
+                self.run_deeds(seed, run, weights, seen)
+        for name in weights:
+            self.assertGreater(seen[name], 10, name)
+
+    def run_deeds(self, seed, run, weights, seen):
+        keys, most, deeds = run
+        scene = Scene(seed, keys, most)
+        for turn in range(deeds):
+            name = scene.deed(weights, turn % 160 < 100)
+            seen[name] += self.do(scene, name)
+            self.assert_scene(scene)
+        self.end(scene)
+
+    def end(self, scene):
+        """Behind clear of all tables just what the asker holds is there."""
+        before = Picture(scene.shelf)
+        for table in scene.tables:
+            table.clear()
+        after = Picture(scene.shelf)
+        self.assertEqual(set(after.found), before.reached_by(scene.held))
+        for number in after.found:
+            self.assertEqual(after.found[number], before.found[number])
+        for number in scene.held:
+            scene.shelf.let_go(number)
+        self.assertEqual(scene.shelf.numbers(), [])
