@@ -29,7 +29,7 @@ class PartCase(AuditCase):
         before = Picture(shelf)
         told = deed(*things)
         after = Picture(shelf)
-        tables = list(told) if type(told) is tuple else [told]
+        tables = [part for part in told if isinstance(part, Table)] if type(told) is tuple else [told]
         self.assertEqual([after.rows(table.root) for table in tables], wanted)
         self.assertEqual([table.root is None for table in tables], [rows == [] for rows in wanted])
         for table in tables:

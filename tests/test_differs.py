@@ -6,6 +6,7 @@ import random
 import unittest
 
 from audits import MANY, UNEVEN, Picture, grown, slender, some
+from mixes import unlike_plainly
 from parts import spiny
 from trees import MISSING, PLACES, PLANS, RISING, TwigCase, looks_of, planted, put, rows_for, shape_of, shown
 from twigmap.bonds import bonded
@@ -15,12 +16,6 @@ from twigmap.errors import NoTwig
 from twigmap.fills import filled
 from twigmap.shelf import Shelf
 from twigmap.tables import Table
-
-
-def sides_unlike(picture, one, other):
-    rows = [dict(picture.rows(root)) for root in (one, other)]
-    sides = [(key, *[[part[key]] if key in part else [] for part in rows]) for key in set(rows[0]) | set(rows[1])]
-    return sorted([row for row in sides if row[1] != row[2]], key=lambda row: PLACES[row[0]])
 
 
 def tops(picture, one, other):
@@ -43,7 +38,7 @@ class DifferCase(TwigCase):
     def compare_once(self, shelf, picture, one, other):
         reach = [set(picture.reach(root)) for root in (one, other)]
         apart = sorted(reach[0] ^ reach[1])
-        wanted = sides_unlike(picture, one, other)
+        wanted = unlike_plainly(dict(picture.rows(one)), dict(picture.rows(other)))
         told, looks = looks_of(shelf, unlike, one, other)
         self.assertEqual(told, wanted)
         self.assertIs(type(told), list)
