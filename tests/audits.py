@@ -5,6 +5,7 @@ import itertools
 
 from trees import PLACES, RISING, TwigCase
 from twigmap.puts import put_in
+from twigmap.shelf import Shelf
 from twigmap.tables import Table
 from twigmap.takes import taken_from
 
@@ -38,6 +39,22 @@ def some(things, many):
     if len(things) <= many:
         return list(things)
     return [things[at * (len(things) - 1) // (many - 1)] for at in range(many)]
+
+
+class NotingShelf(Shelf):
+    """Notes each twig that is put, also such as go again at once."""
+
+    def __init__(self):
+        Shelf.__init__(self)
+        self.puts = []
+
+    def put_leaf(self, rows):
+        self.puts.append(rows)
+        return Shelf.put_leaf(self, rows)
+
+    def put_stem(self, numbers):
+        self.puts.append(numbers)
+        return Shelf.put_stem(self, numbers)
 
 
 class Picture:
@@ -109,13 +126,16 @@ def others_than(held, root):
 
 
 class AuditCase(TwigCase):
+    def place(self, key):
+        return PLACES[key]
+
     def assert_even(self, picture):
         """[20], [21]: leaves, stems, labels and holders, each reckoned anew."""
         stems_over = collections.Counter(one for number in picture.found for one in picture.branches(number))
         for number, (kind, things) in picture.found.items():
             rows = picture.rows(number)
-            places = [PLACES[key] for key, _ in rows]
-            self.assertEqual(places, sorted(set(places)))
+            places = [self.place(key) for key, _ in rows]
+            self.assertTrue(all(place < following for place, following in zip(places, places[1:])))
             self.assertIn(len(things), (1, 2, 3, 4) if kind == "leaf" else (2, 3, 4))
             self.assertLessEqual(len({picture.height(branch) for branch in picture.branches(number)}), 1)
             label = (picture.height(number), rows[0][0], rows[-1][0], len(rows))

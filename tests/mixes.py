@@ -5,7 +5,7 @@ import random
 
 from audits import MANY, Picture, grown
 from parts import PartCase
-from trees import PLACES, rows_for
+from trees import place_plainly, rows_for
 from twigmap.bonds import bonded
 from twigmap.cuts import cut, gapped, span
 from twigmap.errors import Stale
@@ -40,7 +40,7 @@ def kin(seed):
 
 
 def in_order(keys):
-    return sorted(keys, key=PLACES.get)
+    return sorted(keys, key=place_plainly)
 
 
 def in_rows(rows):

@@ -5,11 +5,14 @@ import itertools
 import random
 
 from audits import AuditCase, Picture
+from mixes import MixCase, joined_plainly, unlike_plainly
 from parts import PartCase
 from trees import NO_KEYS, PLACES, RISING
 from twigmap.cuts import cut, gapped, span
+from twigmap.differs import unlike
 from twigmap.errors import NoKey
 from twigmap.fills import filled
+from twigmap.patches import patch_ok, turned
 from twigmap.shelf import Shelf
 from twigmap.tables import Table
 
@@ -17,11 +20,11 @@ from twigmap.tables import Table
 class Scene:
     """Tables on a shelf, for each the dict of its rows, and the numbers that the asker holds."""
 
-    def __init__(self, seed, keys, most):
+    def __init__(self, seed, keys, most, shelf=None):
         self.chance = random.Random(seed)
         self.keys = [RISING[at * len(RISING) // keys] for at in range(keys)]
         self.most = most
-        self.shelf = Shelf()
+        self.shelf = Shelf() if shelf is None else shelf
         self.tables = [Table(self.shelf)]
         self.dicts = [{key: 0 for key in self.chance.sample(self.keys, keys // 2)}]
         for key in self.dicts[0]:
@@ -57,6 +60,9 @@ class Scene:
 
 
 class SceneCase(AuditCase):
+    def scene(self, seed, keys, most):
+        return Scene(seed, keys, most)
+
     def do(self, scene, name):
         """Does one deed, and tells whether it could be done."""
         return getattr(self, "do_" + name.replace(" ", "_"))(scene, scene.pick())
@@ -146,15 +152,21 @@ class SceneCase(AuditCase):
         self.assert_even(picture)
         roots = [table.root for table in scene.tables]
         self.assertEqual([root is None for root in roots], [rows == {} for rows in scene.dicts])
-        holds = sorted(scene.held + [root for root in roots if root is not None])
-        self.assertEqual(picture.holds(), holds)
-        self.assertEqual(set(picture.found), picture.reached_by(holds))
+        holds = collections.Counter(picture.holds())
+        holds.subtract(scene.held + [root for root in roots if root is not None])
+        self.assertGreaterEqual(min(holds.values(), default=0), 0)
+        self.assert_held_by_others(scene, picture, list(holds.elements()))
+        self.assertEqual(set(picture.found), picture.reached_by(picture.holds()))
         for table, rows in zip(scene.tables, scene.dicts):
             self.assertEqual(table.rows(), sorted(rows.items(), key=lambda row: PLACES[row[0]]))
             self.assertEqual(table.count(), len(rows))
             self.assertEqual(table.twigs(), sorted(picture.reach(table.root)))
             for key in scene.chance.sample(scene.keys, 5):
                 self.assertEqual(table.side(key), [rows[key]] if key in rows else [])
+
+    def assert_held_by_others(self, scene, picture, holds):
+        """What is held beside what the tables and the asker hold."""
+        self.assertEqual(holds, [])
 
     def run_all(self, seeds, runs, weights):
         """Runs of deeds drawn by weights; each run tells how many keys, tables and deeds there are."""
@@ -167,7 +179,7 @@ class SceneCase(AuditCase):
 
     def run_deeds(self, seed, run, weights, seen):
         keys, most, deeds = run
-        scene = Scene(seed, keys, most)
+        scene = self.scene(seed, keys, most)
         for turn in range(deeds):
             name = scene.deed(weights, turn % 160 < 100)
             seen[name] += self.do(scene, name)
@@ -252,4 +264,127 @@ class PartSceneCase(SceneCase, PartCase):
         ]:
             self.assert_nothing_changed(scene.shelf, NoKey(), deed, *things)
         self.filled_refused(scene.shelf, [(right, 1), (right, 2)], 1)
+        return True
+
+
+class JoinSceneCase(PartSceneCase, MixCase):
+    def setUp(self):
+        self.clashes = collections.Counter()
+
+    def three(self, scene):
+        return [scene.pick() for _ in range(3)]
+
+    def patch_between(self, scene, one, other, most):
+        """So many rows at most of what is unlike, as a patch by itself."""
+        rows = unlike_plainly(scene.dicts[one], scene.dicts[other])
+        picked = scene.chance.sample(rows, min(most, len(rows)))
+        return sorted(picked, key=lambda row: PLACES[row[0]])
+
+    def do_patch(self, scene, at, patch):
+        self.assertTrue(self.done_audited(scene.tables[at], patch))
+        for key, _, new in patch:
+            scene.dicts[at].pop(key, None)
+            for value in new:
+                scene.dicts[at][key] = value
+
+    def do_unlike(self, scene, at):
+        other = scene.pick()
+        told = unlike(scene.shelf, scene.tables[at].root, scene.tables[other].root)
+        self.assertEqual(told, unlike_plainly(scene.dicts[at], scene.dicts[other]))
+        self.assertIs(patch_ok(told), True)
+        self.assertEqual(self.turned_audited(told), unlike_plainly(scene.dicts[other], scene.dicts[at]))
+        return told != []
+
+    def do_done(self, scene, at):
+        patch = self.patch_between(scene, at, scene.pick(), 6)
+        self.do_patch(scene, at, patch)
+        return patch != []
+
+    def do_done_and_back(self, scene, at):
+        patch = self.patch_between(scene, at, scene.pick(), 6)
+        rows = scene.tables[at].rows()
+        self.do_patch(scene, at, patch)
+        self.do_patch(scene, at, turned(patch))
+        self.assertEqual(scene.tables[at].rows(), rows)
+        return patch != []
+
+    def do_done_stale(self, scene, at):
+        """Some rows of the patch are another table's, so that their old side may be another one."""
+        one, other = scene.pick(), scene.pick()
+        patch = self.patch_between(scene, one, other, 10)
+        if not [key for key, old, _ in patch if scene.tables[at].side(key) != old]:
+            return False
+        self.assertFalse(self.done_audited(scene.tables[at], patch))
+        return True
+
+    def do_behind(self, scene, at):
+        one, other, third = self.three(scene)
+        roots = [scene.tables[which].root for which in (one, other, third)]
+        patches = [unlike(scene.shelf, roots[0], roots[1]), unlike(scene.shelf, roots[1], roots[2])]
+        both = self.behind_audited(*patches)
+        self.assertEqual(both, unlike_plainly(scene.dicts[one], scene.dicts[third]))
+        fork = scene.tables[one].fork()
+        self.done_short(fork, both)
+        scene.add_table(fork, dict(scene.dicts[third]))
+        return all(patches)
+
+    def done_short(self, table, patch):
+        """In short patches, as each row of one is audited."""
+        for at in range(0, len(patch), 40):
+            self.assertTrue(self.done_audited(table, patch[at:at + 40]))
+
+    def do_behind_stale(self, scene, at):
+        one, other, third = self.three(scene)
+        patches = [self.patch_between(scene, at, one, 20), self.patch_between(scene, other, third, 20)]
+        return self.behind_audited(*patches) is None
+
+    def do_joined(self, scene, at):
+        places = self.three(scene)
+        return self.join(scene, [scene.tables[place] for place in places], [scene.dicts[place] for place in places])
+
+    def do_joined_forks(self, scene, at):
+        """One and other begin as forks of a base, and go on by themselves."""
+        forks = [scene.tables[at].fork() for _ in range(2)]
+        changed = [dict(scene.dicts[at]) for _ in range(2)]
+        keys = scene.chance.sample(scene.keys, 12)
+        for fork, rows in zip(forks, changed):
+            for key in scene.chance.sample(keys, 9):
+                side = scene.chance.choice([[], ["x"], ["y"]])
+                rows.pop(key, None)
+                fork.take(key)
+                for value in side:
+                    rows[key] = value
+                    fork.put(key, value)
+        for fork, rows in zip(forks, changed):
+            self.assertEqual(dict(fork.rows()), rows)
+        self.join(scene, [scene.tables[at], *forks], [scene.dicts[at], *changed])
+        for fork in forks:
+            fork.clear()
+        return True
+
+    def join(self, scene, tables, dicts):
+        keep = scene.chance.choice(["base", "one", "other"])
+        told, clashes = self.joined_both_ways(*tables, keep)
+        rows, wanted = joined_plainly(*dicts, keep)
+        self.assertEqual(clashes, wanted)
+        self.clashes[keep] += len(clashes)
+        scene.add_table(told, rows)
+        return True
+
+    def do_laid(self, scene, at):
+        other = scene.pick()
+        told = self.laid_audited(scene.tables[at], scene.tables[other])
+        scene.add_table(told, {**scene.dicts[at], **scene.dicts[other]})
+        return True
+
+    def do_met(self, scene, at):
+        other = scene.pick()
+        told = self.met_audited(scene.tables[at], scene.tables[other])
+        scene.add_table(told, {key: value for key, value in scene.dicts[at].items() if key in scene.dicts[other]})
+        return True
+
+    def do_less(self, scene, at):
+        other = scene.pick()
+        told = self.less_audited(scene.tables[at], scene.tables[other])
+        scene.add_table(told, {key: value for key, value in scene.dicts[at].items() if key not in scene.dicts[other]})
         return True

@@ -4,6 +4,7 @@ import itertools
 import random
 import unittest
 
+from trees import PLACES, place_plainly
 from twigmap.errors import NoKey
 from twigmap.keys import ahead, checked, deep, is_key, order, place_in
 
@@ -194,6 +195,11 @@ class OrderTest(unittest.TestCase):
         self.assertEqual(order([]), [])
         self.assertEqual(order([(1,)]), [(1,)])
         self.assertEqual(order([(7 * place) % 400 for place in range(400)]), list(range(400)))
+
+    def test_order_of_all_keys_that_other_tests_have_in_order(self):
+        rising = sorted(PLACES, key=PLACES.get)
+        self.assertEqual(order(rising[::-1]), rising)
+        self.assertEqual(sorted(rising[::-1], key=place_plainly), rising)
 
     def test_order_leaves_what_was_handed_in(self):
         handed = ["b", 2, (), 1, "a", 1]

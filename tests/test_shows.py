@@ -1,8 +1,8 @@
 """[2], [11], [12], [13]: the texts of keys."""
 
-import re
 import unittest
 
+from sayings import KEY, KEYS
 from twigmap.errors import NoText
 from twigmap.shows import read, read_many, show
 
@@ -46,18 +46,6 @@ REFUSED = [
     ('"\xe4"', 1), ('"' + "a" * 39 + '\x7f"', 40), ('"\\\x7f"', 2), ("\u0661", 0), ("1\u0661", 1),
 ]
 
-FREED = r'(?:[ !#-\[\]-~]|\\["\\])'
-FLAT = r'(?:0|-?[1-9][0-9]{0,59}|"' + FREED + '{0,40}")'
-
-
-def one_deeper(inner):
-    return r"\((?:%s(?: %s){0,3})?\)" % (inner, inner)
-
-
-ONE = "(?:%s|%s)" % (FLAT, one_deeper(FLAT))
-TWO = "(?:%s|%s)" % (FLAT, one_deeper(ONE))
-KEY = re.compile("(?:%s|%s)" % (FLAT, one_deeper(TWO)))
-KEYS = re.compile("(?:%s)(?: (?:%s))*" % (KEY.pattern, KEY.pattern))
 ENDINGS = [begun + ")" * closed for begun in ("", "1", '"', '""') for closed in range(4)]
 
 

@@ -3,29 +3,13 @@
 import random
 import unittest
 
-from audits import MANY, AuditCase, Picture, grown
+from audits import MANY, AuditCase, NotingShelf, Picture, grown
 from trees import MISSING, NO_KEYS, PLACES, RISING, planted, put, rows_for, shown
 from twigmap.errors import NoKey, NoTwig, NotHeld
 from twigmap.shelf import Shelf
 from twigmap.tables import Table
 
 KINDS = [-5, 0, 7, "", "a000", "a001", "~", (), (1,), (50, 2), ("c", ()), ((), 3)]
-
-
-class NotingShelf(Shelf):
-    """Notes each twig that is put, also such as go again at once."""
-
-    def __init__(self):
-        Shelf.__init__(self)
-        self.puts = []
-
-    def put_leaf(self, rows):
-        self.puts.append(rows)
-        return Shelf.put_leaf(self, rows)
-
-    def put_stem(self, numbers):
-        self.puts.append(numbers)
-        return Shelf.put_stem(self, numbers)
 
 
 class MakingTest(AuditCase):

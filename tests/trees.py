@@ -14,6 +14,17 @@ RISING = (
 )
 PLACES = {key: place for place, key in enumerate(RISING)}
 
+# Keys with the signs by which texts are parted and freed, in their order: the texts stand between " " and "a000", the
+# tuples between (50, 49) and ("b00",).
+ODD_TEXTS = [
+    "  ", ' "', '"', '""', '"a b"', "(", "()", '(1 "x")', ")", "-", "0", ";", "; ", "A", "\\", '\\"', "\\\\", "a",
+    "a b",
+]
+ODD_TUPLES = [("",), (" ", "; "), ('"', ("\\", (-1,))), ("(", ")", "a b"), ("\\",)]
+ODD = ODD_TEXTS + ODD_TUPLES
+PLACES.update({key: PLACES[" "] + (at + 1) / 100 for at, key in enumerate(ODD_TEXTS)})
+PLACES.update({key: PLACES[(50, 49)] + (at + 1) / 100 for at, key in enumerate(ODD_TUPLES)})
+
 # A whole number is a leaf of so many rows, a list a stem of such.
 PLANS = [
     1, 2, 3, 4,
@@ -28,6 +39,13 @@ NO_KEYS = [
     (1, 2, 3, 4, 5), ((((),),),), (1, True), (1, [2]),
 ]
 MISSING = [-1, 3000, 10 ** 70]
+
+
+def place_plainly(key):
+    """Something that stands in Python's order where the key stands in [5]; also of keys that no list here has."""
+    if isinstance(key, tuple):
+        return (2, [place_plainly(part) for part in key])
+    return (0, key) if isinstance(key, int) else (1, [ord(sign) for sign in key])
 
 
 class Tree:
